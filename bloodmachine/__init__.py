@@ -1,0 +1,1 @@
+"""A made-up machine that cleans blood."""

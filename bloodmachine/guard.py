@@ -1,0 +1,80 @@
+"""The guard: what it remembers of the readings, and its eight latches."""
+
+# A latch's number is what it adds to the latches' number.
+AIR_LATCH = 1
+UNLIKE_LATCH = 2
+THICK_LATCH = 32
+UNCENTRED_LATCH = 64
+STILL_LATCH = 128
+
+READINGS_KEPT = 4
+BAD_READING = 200
+BAD_READINGS = 400
+SURE = 5
+FAR_APART = 50
+MOST_UNLIKE = 2
+MOST_UNCENTRED = 10
+
+
+class Guard:
+    def __init__(self):
+        self.renew()
+
+    def renew(self):
+        self.forget()
+        self.still = 0
+        self.latches = 0
+
+    def forget(self):
+        self.readings = []
+        self.clean = 0
+        self.unlike = 0
+        self.streak = 0
+        self.forget_pressures()
+
+    def forget_pressures(self):
+        self.pressures = None
+        self.centre = None
+        self.uncentred = 0
+
+    def lose_power(self):
+        self.forget()
+        # That blood stood still is a mark on the line itself, so this one outlives the power.
+        self.latches = self.latches & STILL_LATCH
+
+    def raise_latch(self, latch):
+        self.latches = self.latches | latch
+
+    def latched(self):
+        return self.latches > 0
+
+    def sure(self):
+        return self.clean == SURE
+
+    def watch_air(self, first, second):
+        reading = max(first, second)
+        self.readings = ([reading] + self.readings)[:READINGS_KEPT]
+        if reading < BAD_READING and sum(self.readings) < BAD_READINGS:
+            self.clean = min(self.clean + 1, SURE)
+        else:
+            self.clean = 0
+            self.raise_latch(AIR_LATCH)
+        self.watch_channels(first, second)
+
+    def watch_channels(self, first, second):
+        if abs(first - second) > FAR_APART:
+            self.unlike = min(self.unlike + 1, MOST_UNLIKE)
+        else:
+            self.unlike = 0
+        if self.unlike == MOST_UNLIKE:
+            self.raise_latch(UNLIKE_LATCH)
+
+    def watch_thickness(self, cell):
+        if 1000 * cell[0] > 700 * (cell[0] + cell[1]):
+            self.raise_latch(THICK_LATCH)
+
+    def watch_centre(self, joined):
+        if joined and self.centre is None:
+            self.uncentred = min(self.uncentred + 1, MOST_UNCENTRED)
+            if self.uncentred == MOST_UNCENTRED:
+                self.raise_latch(UNCENTRED_LATCH)
