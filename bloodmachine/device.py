@@ -45,6 +45,16 @@ class Device:
         line = self.line
         line.sink = LOOP
 
+    # Answers how much air it was.
+    def vent(self):
+        vented = self.line.empty_trap()
+        self.totals.count_vented(vented)
+        return vented
+
+    # Time goes by with the power or without it.
+    def let_pass(self, seconds):
+        self.guard.watch_standing(seconds, self.line.has_red())
+
     # Asked ahead of each small step; where it says no, the power has failed
     # and the call that asked must do nothing more.
     def may_step(self):

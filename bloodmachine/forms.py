@@ -21,11 +21,27 @@ RANGES = {
     14: ((0, 1000000, 1),),
     15: (),
     16: (),
+    17: ((0, 100000, 1),),
+    18: ((0, 5000000, 1),),
+    19: ((0, 1000, 1),),
+    20: ((0, 1, 1), (0, 1, 1), (0, 1000, 1)),
+    21: ((0, 1, 1), (0, 1, 1)),
+    22: ((-1000, 1000, 1), (-1000, 1000, 1)),
+    23: (),
+    24: ((0, 1000000, 1),),
+    25: ((1, 3600, 1),),
+    26: (),
+    27: (),
+    28: ((0, 7, 1),),
+    29: (),
+    30: (),
+    31: ((0, 15, 1),),
+    32: (),
+    33: (),
 }
-# Calls that aren't built yet are answered like unknown places, but their arguments must be
-# passed over, or they'd be read as calls. Those that have no argument aren't named.
-LATER_ARGUMENTS = {17: 1, 18: 1, 19: 1, 20: 3, 21: 2, 22: 2, 24: 1, 25: 1, 28: 1, 31: 1}
 WITH_PLAN = (3, 4)
+# back, look, guard, cell, path and totals.
+WITHOUT_POWER = (17, 29, 30, 31, 32, 33)
 
 
 class Call:
@@ -36,18 +52,12 @@ class Call:
         self.plan = plan
 
 
-def argument_count(place):
-    if place in RANGES:
-        return len(RANGES[place])
-    return LATER_ARGUMENTS.get(place, 0)
-
-
 def split_calls(calls):
     rows = []
     at = 0
     while at < len(calls):
         place = calls[at]
-        behind = at + 1 + argument_count(place)
+        behind = at + 1 + len(RANGES.get(place, ()))
         numbers = calls[at + 1:behind]
         plan = None
         if place in WITH_PLAN:
@@ -65,6 +75,10 @@ def has_form(call):
     if call.place in WITH_PLAN:
         return call.plan is not None and len(call.plan) % 3 == 0
     return call.plan is None
+
+
+def needs_power(call):
+    return call.place not in WITHOUT_POWER
 
 
 def fits(number, allowed):

@@ -38,7 +38,6 @@ class Line:
 
     def lay(self):
         self.cells = [AIR_CELL] * LENGTH
-        self.trapped = 0
         self.sink = TO_DRAIN
 
     def take_water(self, wished):
@@ -52,6 +51,15 @@ class Line:
         caught = min(cell[2], TRAP_ROOM - self.trapped)
         self.cells[TRAP] = (cell[0], cell[1], cell[2] - caught)
         self.trapped += caught
+
+    # Answers how much air it was.
+    def empty_trap(self):
+        vented = self.trapped
+        self.trapped = 0
+        return vented
+
+    def has_red(self):
+        return any([cell[0] > 0 for cell in self.cells])
 
     def channel_reading(self, channel):
         if self.stuck[channel] is None:

@@ -2,9 +2,12 @@
 
 from bloodmachine.cleaning import clean
 from bloodmachine.device import Device
-from bloodmachine.forms import given_by, has_form, in_range, split_calls
+from bloodmachine.forms import given_by, has_form, in_range, needs_power, split_calls
+from bloodmachine.guarding import attend
+from bloodmachine.happening import happen
 from bloodmachine.powering import switch_power
 from bloodmachine.preparing import prepare
+from bloodmachine.telling import tell
 from bloodmachine.treating import treat
 
 
@@ -23,7 +26,7 @@ def answer_call(device, call):
         return [-100]
     if not in_range(call):
         return [-1]
-    if not device.power:
+    if needs_power(call) and not device.power:
         return [-2]
     return carry_out(device, call.place, given_by(call))
 
@@ -35,4 +38,10 @@ def carry_out(device, place, given):
         return treat(device, place, given)
     if place <= 13:
         return clean(device, place, given)
-    return switch_power(device, place, given)
+    if place <= 17:
+        return switch_power(device, place, given)
+    if place <= 21:
+        return happen(device, place, given)
+    if place <= 28:
+        return attend(device, place, given)
+    return tell(device, place, given)

@@ -34,7 +34,8 @@ def lay_line(device, given):
 
 
 def replace_line(device):
-    device.totals.count_thrown_away(device.line.cells, device.line.trapped)
+    device.vent()
+    device.totals.count_thrown_away(device.line.cells)
     device.totals.count_line()
     device.line.lay()
     device.guard.renew()

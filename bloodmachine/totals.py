@@ -28,10 +28,12 @@ class Totals:
         self.air_in += LENGTH * AIR_CELL[2]
         self.lines += 1
 
-    def count_thrown_away(self, cells, trapped):
+    def count_thrown_away(self, cells):
         for cell in cells:
             self.thrown_away = added(self.thrown_away, cell)
-        self.vented += trapped
+
+    def count_vented(self, air):
+        self.vented += air
 
     def count_from_patient(self, cell):
         self.from_patient = added(self.from_patient, cell)

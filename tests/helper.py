@@ -4,12 +4,13 @@ import unittest
 
 from bloodmachine.device import Device
 from bloodmachine.forms import Call
-from bloodmachine.machine import answer_call
+from bloodmachine.machine import answer_call, answers
 from bloodmachine.memory import Memory, Slot, begun_record
 from bloodmachine.plans import pieces_of
 
 (TEST, LAY, PRIME, BEGIN, REPLAN, JOIN, LEAVE, TAKING, RUN, FINISH, DONE,
- DISINFECT, RINSE, CLEAR, ARM, DISARM, FAIL) = range(17)
+ DISINFECT, RINSE, CLEAR, ARM, DISARM, FAIL, BACK, BAG, HEM, FAULT, SLIP, PRESS, CENTRE,
+ LEAK, WAIT, VENT, CHECK, RESET, LOOK, GUARD, CELL, PATH, TOTALS) = range(34)
 (IDLE, TESTED, PRIMING, TREATING, RETURNING, SPENT, DISINFECTING, RINSING) = range(8)
 
 LEAST = -2 ** 63
@@ -21,6 +22,32 @@ PLAN = [100, 1, 1800000]
 
 def call(device, place, *numbers, plan=None):
     return answer_call(device, Call(place, list(numbers), None if plan is None else list(plan)))
+
+
+def answered(*rows):
+    """The answers, one list each, of rows on one new object; a plan is a list, the last of its row."""
+    calls = []
+    for row in rows:
+        for number in row:
+            if isinstance(number, list):
+                calls.append(len(number))
+                calls.extend(number)
+            else:
+                calls.append(number)
+    before = list(calls)
+    given = answers(calls)
+    assert calls == before
+    split = []
+    while given:
+        split.append(given[1:1 + given[0]])
+        assert len(split[-1]) == given[0]
+        given = given[1 + given[0]:]
+    assert len(split) == len(rows)
+    return split
+
+
+def last_answered(*rows):
+    return answered(*rows)[-1]
 
 
 def state(thing):
@@ -51,29 +78,29 @@ def device_in(phase):
 
 
 def primed_device(bag=5000000):
-    """In phase 2, sure, nothing latched. The bag is hung and latch 0 lowered by hand."""
+    """In phase 2, sure, nothing latched."""
     device = Device()
     assert call(device, TEST) == [0, 0]
     assert call(device, LAY) == [0]
-    device.line.bag = bag
+    assert call(device, BAG, bag) == [0]
     assert call(device, PRIME, 100, 0) == [0, 1, 5]
-    device.guard.latches = 0
+    assert call(device, RESET, 0) == [0]
     return device
 
 
 def begun_device(goal=3600, catch=0, q=10, plan=PLAN, haematocrit=400):
     device = primed_device()
-    device.line.haematocrit = haematocrit
+    assert call(device, HEM, haematocrit) == [0]
     assert call(device, BEGIN, goal, catch, q, plan=plan) == [0]
     return device
 
 
 def joined_device(goal=3600, catch=0, q=10, plan=PLAN, haematocrit=400, taking=1):
-    """Joined and centred (the centre is set by hand), so that no latch comes of itself."""
+    """Joined and centred, so that no latch comes of itself."""
     device = begun_device(goal, catch, q, plan, haematocrit)
     assert call(device, JOIN) == [0]
-    device.guard.pressures = (0, 100)
-    device.guard.centre = (0, 100)
+    assert call(device, PRESS, 0, 100) == [0]
+    assert call(device, CENTRE) == [0]
     assert call(device, TAKING, taking) == [0]
     return device
 

@@ -3,8 +3,9 @@
 from bloodmachine.device import Device
 from bloodmachine.machine import answers
 from helper import (
-    ARM, BEGIN, DISARM, DISINFECT, FAIL, GREATEST, JOIN, LAY, LEAST, PLAN, PRIME, REPLAN, RINSE, RUN,
-    TAKING, TEST, MachineTest, call, state,
+    ARM, BACK, BAG, BEGIN, CELL, CENTRE, CHECK, CLEAR, DISARM, DISINFECT, FAIL, FAULT, GREATEST, GUARD, HEM, JOIN,
+    LAY, LEAK, LEAST, LOOK, PATH, PLAN, PRESS, PRIME, REPLAN, RESET, RINSE, RUN, SLIP, TAKING, TEST, TOTALS, VENT, WAIT, MachineTest,
+    call, state,
 )
 
 # place, arguments that are allowed, which of them is meant, its least, its greatest
@@ -21,7 +22,23 @@ EDGES = (
     (DISINFECT, (1,), 0, 1, 100),
     (RINSE, (1,), 0, 1, 100),
     (ARM, (0,), 0, 0, 1000000),
+    (BACK, (0,), 0, 0, 100000),
+    (BAG, (0,), 0, 0, 5000000),
+    (HEM, (0,), 0, 0, 1000),
+    (FAULT, (0, 0, 0), 0, 0, 1),
+    (FAULT, (0, 0, 0), 1, 0, 1),
+    (FAULT, (0, 0, 0), 2, 0, 1000),
+    (FAULT, (1, 1, 1000), 2, 0, 1000),
+    (SLIP, (0, 0), 0, 0, 1),
+    (SLIP, (0, 0), 1, 0, 1),
+    (PRESS, (0, 0), 0, -1000, 1000),
+    (PRESS, (0, 0), 1, -1000, 1000),
+    (LEAK, (0,), 0, 0, 1000000),
+    (WAIT, (1,), 0, 1, 3600),
+    (RESET, (0,), 0, 0, 7),
+    (CELL, (0,), 0, 0, 15),
 )
+ANSWERED_WITHOUT_POWER = (BACK, LOOK, GUARD, CELL, PATH, TOTALS)
 ALL_ALLOWED = {place: numbers for place, numbers, index, least, greatest in EDGES}
 
 
@@ -51,12 +68,33 @@ class AnswersTest(MachineTest):
         self.assertEqual(answers([BEGIN, 1, 0, 1, 1, TEST, LAY]), [1, -100, 1, -3])
         self.assertEqual(answers([REPLAN, 1, 0, 2, TEST, TEST, LAY]), [1, -100, 1, -3])
 
-    def test_calls_that_come_later_keep_their_arguments(self):
-        counts = {17: 1, 18: 1, 19: 1, 20: 3, 21: 2, 22: 2, 23: 0, 24: 1, 25: 1, 26: 0, 27: 0, 28: 1,
+    def test_each_call_stands_with_just_its_arguments(self):
+        counts = {0: 0, 1: 0, 2: 2, 5: 0, 6: 0, 7: 1, 8: 1, 9: 0, 10: 0, 11: 1, 12: 1, 13: 0, 14: 1, 15: 0,
+                  17: 1, 18: 1, 19: 1, 20: 3, 21: 2, 22: 2, 23: 0, 24: 1, 25: 1, 26: 0, 27: 0, 28: 1,
                   29: 0, 30: 0, 31: 1, 32: 0, 33: 0}
         for place, count in counts.items():
             with self.subTest(place=place):
-                self.assertEqual(answers([place] + [0] * count + [TEST]), [1, -100, 2, 0, 0])
+                given = answers([place] + [GREATEST] * count + [BAG, 7, LAY])
+                if count > 0:
+                    self.assertEqual(given, [1, -1, 1, 0, 1, -3])
+                else:
+                    self.assertEqual(len(given), given[0] + 5)
+                    self.assertNotIn(-100, given)
+
+    def test_no_call_is_unknown(self):
+        for place in range(34):
+            numbers = ALL_ALLOWED.get(place, ())
+            given = call(Device(), place, *numbers, plan=plan_for(place))
+            self.assertNotIn(given, ([-100], [-1], [-2]), place)
+
+    def test_how_many_numbers_each_answers(self):
+        # on a new object; one number alone is a refusal or what the call tells
+        counts = {TEST: 2, DISINFECT: 1, ARM: 1, DISARM: 1, FAIL: 1, BAG: 1, HEM: 1, FAULT: 1, SLIP: 1, PRESS: 1,
+                  LEAK: 1, WAIT: 1, VENT: 2, CHECK: 1, LOOK: 16, GUARD: 13, CELL: 4, PATH: 9, TOTALS: 22}
+        for place, count in counts.items():
+            given = answers([place] + list(ALL_ALLOWED.get(place, ())))
+            self.assertEqual((given[0], len(given) - 1), (count, count), place)
+            self.assertEqual(given[1], 0, place)
 
     def test_what_is_handed_in_stays_and_a_second_use_answers_the_same(self):
         calls = [TEST, LAY, PRIME, 100, 0, BEGIN, 5, 1, 3, 6, 10, 1, 3600, 5, 0, 0, ARM, 3,
@@ -83,10 +121,17 @@ class AnswersTest(MachineTest):
 class FormTest(MachineTest):
     def test_rows_of_other_forms(self):
         device = Device()
-        for place in (-1, 34, LEAST, GREATEST):
+        for place in (-1, 34, 35, LEAST, GREATEST):
             self.refused(device, -100, place)
         self.refused(device, -100, TEST, 0)
         self.refused(device, -100, PRIME, 1)
+        self.refused(device, -100, BACK)
+        self.refused(device, -100, FAULT, 0, 0)
+        self.refused(device, -100, PRESS, 0, 0, 0)
+        self.refused(device, -100, CENTRE, 0)
+        self.refused(device, -100, CELL)
+        self.refused(device, -100, TOTALS, 0)
+        self.refused(device, -100, LOOK, plan=PLAN)
         self.refused(device, -100, PRIME, 1, 0, 0)
         self.refused(device, -100, RUN)
         self.refused(device, -100, BEGIN, 1, 0, 1)
@@ -176,15 +221,36 @@ class PlanRangeTest(MachineTest):
 
 
 class NoPowerTest(MachineTest):
-    def test_every_call_is_refused_without_power(self):
+    def test_every_other_call_is_refused_without_power(self):
         device = Device()
         self.assertEqual(call(device, FAIL), [0])
-        for place in range(17):
-            with self.subTest(place=place):
-                self.refused(device, -2, place, *ALL_ALLOWED.get(place, ()), plan=plan_for(place))
+        for place in range(34):
+            if place not in ANSWERED_WITHOUT_POWER:
+                with self.subTest(place=place):
+                    self.refused(device, -2, place, *ALL_ALLOWED.get(place, ()), plan=plan_for(place))
+
+    def test_six_calls_are_answered_without_power(self):
+        device = Device()
+        self.assertEqual(call(device, FAIL), [0])
+        before = state(device)
+        for place, count in ((LOOK, 16), (GUARD, 13), (CELL, 4), (PATH, 9), (TOTALS, 22)):
+            given = call(device, place, *ALL_ALLOWED.get(place, ()))
+            self.assertEqual((len(given), given[0]), (count, 0))
+            self.assertEqual(state(device), before)
+        self.assertEqual(call(device, BACK, 0), [0, 0, 0, 0])
+
+    def test_no_power_goes_ahead_of_the_calls_own_refusals(self):
+        # each of these is refused by a number of its own while there is power
+        for row in ((LAY,), (JOIN,), (RUN, 1), (CENTRE,), (RESET, 0), (RESET, 5), (CLEAR,)):
+            device = Device()
+            self.refused(device, -3, *row)
+            call(device, FAIL)
+            self.refused(device, -2, *row)
 
     def test_through_answers(self):
         self.assertEqual(answers([FAIL, TEST, ARM, 0, DISARM, FAIL]), [1, 0, 1, -2, 1, -2, 1, -2, 1, -2])
+        self.assertEqual(answers([FAIL, VENT, CHECK, PRESS, 0, 1001, CELL, 0, CELL, 16, BACK, 100001, BACK, 0, VENT]),
+                         [1, 0, 1, -2, 1, -2, 1, -1, 4, 0, 0, 0, 1000, 1, -1, 1, -1, 4, 0, 0, 0, 0, 2, 0, 0])
 
 
 class NewTest(MachineTest):

@@ -1,9 +1,10 @@
-"""Promises 14 to 16: arm, disarm, fail, and what is so when the power fails."""
+"""Promises 14 to 17: arm, disarm, fail, back, and what is so when the power fails."""
 
 from bloodmachine.device import Device
 from bloodmachine.machine import answers
 from helper import (
-    ARM, DISARM, DISINFECT, FAIL, LAY, PRIME, TEST, MachineTest, call, joined_device, kept, state,
+    ARM, BACK, BAG, BEGIN, DISARM, DISINFECT, FAIL, GUARD, HEM, JOIN, LAY, LOOK, PRIME, RESET, RUN, TEST, WAIT,
+    MachineTest, answered, call, joined_device, kept, last_answered, state,
 )
 
 
@@ -116,3 +117,78 @@ class ArmTest(MachineTest):
         self.assertEqual(device.armed, 0)
         self.assertEqual(call(device, LAY), [1])
         self.assertEqual((device.armed, kept(device)[0]), (None, 1))
+
+
+class BackTest(MachineTest):
+    def test_it_is_refused_with_power(self):
+        self.refused(Device(), -3, BACK, 0)
+        self.refused(full_device(), -3, BACK, 100000)
+        self.assertEqual(answered((BACK, 5), (FAIL,), (BACK, 5), (BACK, 5)), [[-3], [0], [0, 0, 0, 0], [-3]])
+
+    def test_a_wrong_argument_goes_first_with_power_or_without(self):
+        device = Device()
+        for d in (-1, 100001):
+            self.refused(device, -1, BACK, d)
+        call(device, FAIL)
+        for d in (-1, 100001):
+            self.refused(device, -1, BACK, d)
+        self.assertEqual(call(device, BACK, 100000), [0, 0, 0, 0])
+
+    def test_only_the_power_and_what_wait_changes_are_new(self):
+        device = full_device()
+        call(device, FAIL)
+        before = state(device)
+        self.assertEqual(call(device, BACK, 7), [0, 3, 0, 0])
+        self.changed(device, before, {"power": True, "guard.still": 0})
+
+    def test_the_answer(self):
+        device = joined_device(goal=3600)
+        call(device, RUN, 3)
+        call(device, FAIL)
+        self.assertEqual(call(device, BACK, 120), [0, 3, 0, 108])
+        call(device, FAIL)
+        self.assertEqual(call(device, BACK, 1), [0, 3, 128, 108])
+
+    def test_still_with_red_in_the_line(self):
+        # the red is anywhere, also in one cell alone
+        for place in (0, 7, 15):
+            for still, d, grown, latches in ((0, 0, 0, 0), (5, 0, 5, 0), (0, 120, 120, 0), (0, 121, 121, 128),
+                                             (120, 0, 120, 0), (120, 1, 121, 128), (121, 0, 121, 128),
+                                             (999999, 1, 1000000, 128), (999999, 2, 1000000, 128),
+                                             (1000000, 100000, 1000000, 128)):
+                device = Device()
+                device.line.cells[place] = (1, 0, 0)
+                device.guard.still = still
+                call(device, FAIL)
+                before = state(device)
+                self.assertEqual(call(device, BACK, d), [0, 0, latches, 0])
+                self.changed(device, before, {"power": True, "guard.still": grown, "guard.latches": latches})
+
+    def test_still_without_red(self):
+        for d in (0, 1, 121, 100000):
+            for still in (0, 7, 500):
+                device = Device()
+                device.line.cells = [(0, 900, 100)] * 16
+                device.guard.still = still
+                call(device, FAIL)
+                before = state(device)
+                self.assertEqual(call(device, BACK, d), [0, 0, 0, 0])
+                self.changed(device, before, {"power": True, "guard.still": 0})
+
+    def test_a_mark_of_standing_blood_stays(self):
+        device = Device()
+        device.guard.latches = 255
+        call(device, FAIL)
+        self.assertEqual(call(device, BACK, 0), [0, 0, 128, 0])
+
+    def test_time_goes_on_from_what_was_before_the_failing(self):
+        way = ((TEST,), (LAY,), (BAG, 60000), (PRIME, 30, 0), (RESET, 0), (HEM, 300), (BEGIN, 0, 0, 1, [1, 1, 0]),
+               (JOIN,), (RUN, 1), (WAIT, 60), (FAIL,))
+        self.assertEqual(last_answered(*way, (BACK, 60)), [0, 3, 0, 0])
+        self.assertEqual(last_answered(*way, (BACK, 61)), [0, 3, 128, 0])
+        self.assertEqual(last_answered(*way, (BACK, 60), (WAIT, 1)), [128])
+        self.assertEqual(last_answered(*way, (BACK, 0), (GUARD,))[7], 60)
+
+    def test_nothing_is_armed_then(self):
+        self.assertEqual(last_answered((ARM, 0), (TEST,), (BACK, 0), (LOOK,))[:4], [0, 1, -1, 0])
+        self.assertEqual(answered((ARM, 1), (TEST,), (BACK, 0), (TEST,)), [[0], [1], [0, 0, 0, 0], [0, 0]])
