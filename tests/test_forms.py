@@ -4,8 +4,8 @@ from bloodmachine.device import Device
 from bloodmachine.machine import answers
 from helper import (
     ARM, BACK, BAG, BEGIN, CELL, CENTRE, CHECK, CLEAR, DISARM, DISINFECT, FAIL, FAULT, GREATEST, GUARD, HEM, JOIN,
-    LAY, LEAK, LEAST, LOOK, PATH, PLAN, PRESS, PRIME, REPLAN, RESET, RINSE, RUN, SLIP, TAKING, TEST, TOTALS, VENT, WAIT, MachineTest,
-    call, state,
+    LAY, LEAK, LEAST, LOOK, PATH, PLAN, PRESS, PRIME, REPLAN, RESET, RINSE, RUN, SLIP, TAKING, TEST, TOTALS, VENT,
+    WAIT, MachineTest, call, state,
 )
 
 # place, arguments that are allowed, which of them is meant, its least, its greatest

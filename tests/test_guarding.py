@@ -259,7 +259,8 @@ class VentTest(MachineTest):
         self.assertEqual(last_answered(*way, (GUARD,))[8], 20000)
         self.assertEqual(last_answered(*way, (PRIME, 4, 0), (GUARD,))[8], 20000)
         self.assertEqual(
-            answered(*way, (PRIME, 3, 0), (PRIME, 1, 0), (VENT,), (PRIME, 6, 0), (PRIME, 1, 0), (GUARD,), (TOTALS,))[3:],
+            answered(*way, (PRIME, 3, 0), (PRIME, 1, 0), (VENT,), (PRIME, 6, 0), (PRIME, 1, 0), (GUARD,),
+                     (TOTALS,))[3:],
             [[0, 1, 5], [0, 1, 0], [0, 20000], [0, 1, 0], [0, 1, 1],
              [1, 1, 4, 0, 0, 0, 0, 0, 7000, 1, 0, 0, 0],
              [0, 0, 0, 0, 0, 63000, 0, 0, 0, 0, 0, 0, 0, 0, 11000, 0, 0, 16000, 0, 20000, 31, 2]])

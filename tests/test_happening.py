@@ -94,8 +94,8 @@ class FaultTest(MachineTest):
 
     def test_the_self_test_and_check_see_it(self):
         self.assertEqual(
-            answered((FAULT, 1, 1, 0), (TEST,), (CHECK,), (FAULT, 0, 1, 0), (TEST,), (CHECK,), (FAULT, 1, 0, 0), (TEST,),
-                     (CHECK,), (FAULT, 0, 0, 0), (CHECK,), (TEST,)),
+            answered((FAULT, 1, 1, 0), (TEST,), (CHECK,), (FAULT, 0, 1, 0), (TEST,), (CHECK,), (FAULT, 1, 0, 0),
+                     (TEST,), (CHECK,), (FAULT, 0, 0, 0), (CHECK,), (TEST,)),
             [[0], [0, 2], [2], [0], [0, 3], [3], [0], [0, 1], [1], [0], [0], [0, 0]])
 
     def test_wrong_arguments(self):

@@ -93,6 +93,25 @@ class FileTest(unittest.TestCase):
         else:
             ast.literal_eval(value)
 
+    def test_lists_and_dicts_of_the_top_are_only_read(self):
+        for path, tree in trees().items():
+            kept = {node.targets[0].id for node in tree.body
+                    if isinstance(node, ast.Assign) and isinstance(node.value, (ast.List, ast.Dict))}
+            read = []
+            for node in ast.walk(tree):
+                if isinstance(node, ast.Subscript) and isinstance(node.ctx, ast.Load):
+                    read.append(node.value)
+                elif isinstance(node, ast.Attribute) and node.attr == "get":
+                    read.append(node.value)
+                elif isinstance(node, ast.Compare):
+                    read.extend(node.comparators)
+            for node in ast.walk(tree):
+                if isinstance(node, ast.Name) and isinstance(node.ctx, ast.Load) and node.id in kept:
+                    self.assertIn(node, read, f"{path.name}: {node.id}")
+            for node in ast.walk(tree):
+                if isinstance(node, ast.ImportFrom):
+                    self.assertFalse({alias.name for alias in node.names} & {"RANGES", "CALLS"}, path.name)
+
     def test_imports(self):
         defined = {path.stem: set(bound_at_top(tree)) for path, tree in trees().items()}
         drawn = {path.stem: [] for path in trees()}

@@ -156,8 +156,9 @@ class ResetThroughAnswersTest(MachineTest):
     joined = begun + ((JOIN,), (PRESS, 0, 100), (CENTRE,))
 
     def test_latch_0(self):
-        self.assertEqual(answered((TEST,), (LAY,), (PRIME, 10, 0), (RESET, 0), (PRIME, 1, 0), (RESET, 0), (RESET, 0))[2:],
-                         [[0, 1, 4], [-4], [0, 1, 5], [0], [-3]])
+        self.assertEqual(
+            answered((TEST,), (LAY,), (PRIME, 10, 0), (RESET, 0), (PRIME, 1, 0), (RESET, 0), (RESET, 0))[2:],
+            [[0, 1, 4], [-4], [0, 1, 5], [0], [-3]])
 
     def test_latch_1(self):
         self.assertEqual(
@@ -172,7 +173,8 @@ class ResetThroughAnswersTest(MachineTest):
 
     def test_latches_3_and_4(self):
         self.assertEqual(
-            answered(*self.joined, (PRESS, 61, 39), (RESET, 3), (RESET, 4), (PRESS, 60, 40), (RESET, 4), (RESET, 3))[10:],
+            answered(*self.joined, (PRESS, 61, 39), (RESET, 3), (RESET, 4), (PRESS, 60, 40), (RESET, 4),
+                     (RESET, 3))[10:],
             [[24], [-4], [-4], [24], [8], [0]])
 
     def test_latch_5(self):

@@ -73,9 +73,9 @@ class LookTest(MachineTest):
 
     def test_a_session(self):
         self.assertEqual(
-            answered(*BEGUN, (LOOK,), (JOIN,), (LOOK,), (TAKING, 1), (LOOK,), (PRESS, 0, 100), (CENTRE,), (RUN, 4), (LOOK,),
-                     (REPLAN, 500, 0, [3, 1, 1800000]), (LOOK,), (RUN, 2), (FINISH,), (LOOK,), (LEAVE,), (DONE,),
-                     (LOOK,))[7:],
+            answered(*BEGUN, (LOOK,), (JOIN,), (LOOK,), (TAKING, 1), (LOOK,), (PRESS, 0, 100), (CENTRE,), (RUN, 4),
+                     (LOOK,), (REPLAN, 500, 0, [3, 1, 1800000]), (LOOK,), (RUN, 2), (FINISH,), (LOOK,), (LEAVE,),
+                     (DONE,), (LOOK,))[7:],
             [[0, 1, -1, 3, 0, 0, 1, 1000, 1, 7, 15, 0, 0, 0, 0, 0], [0],
              [0, 1, -1, 3, 1, 0, 1, 1000, 1, 7, 15, 0, 0, 0, 0, 0], [0],
              [0, 1, -1, 3, 1, 1, 1, 1000, 1, 7, 15, 0, 0, 0, 0, 0], [0], [0], [0, 4, 0, 200, 0, 0, 0, 0],
@@ -233,8 +233,8 @@ class TotalsTest(MachineTest):
         self.assertEqual(last_answered(*rows, (TOTALS,)), expected)
 
     def test_nothing_is_counted_of_calls_that_move_nothing(self):
-        self.counted((BAG, 5), (HEM, 5), (FAULT, 0, 1, 5), (SLIP, 1, 1), (PRESS, 0, 0), (CENTRE,), (LEAK, 1000), (WAIT, 5),
-                     (VENT,), (FAIL,), (BACK, 5), (DISINFECT, 5), (RINSE, 100))
+        self.counted((BAG, 5), (HEM, 5), (FAULT, 0, 1, 5), (SLIP, 1, 1), (PRESS, 0, 0), (CENTRE,), (LEAK, 1000),
+                     (WAIT, 5), (VENT,), (FAIL,), (BACK, 5), (DISINFECT, 5), (RINSE, 100))
 
     def test_a_laid_line(self):
         self.counted((TEST,), (LAY,), n5=16000, n17=16000, n21=1)
@@ -248,7 +248,8 @@ class TotalsTest(MachineTest):
         self.counted(*laid, (PRIME, 1, 2), n5=16000, n17=16000, n20=1, n21=1)
         self.counted(*laid, (PRIME, 1, 0), n5=17000, n14=1000, n17=16000, n20=1, n21=1)
         self.counted(*laid, (BAG, 1300), (PRIME, 2, 0), n4=1300, n5=16700, n14=2000, n17=16000, n20=2, n21=1)
-        self.counted(*laid, (BAG, 60000), (PRIME, 20, 0), n4=20000, n5=16000, n13=4000, n14=8000, n17=16000, n20=20, n21=1)
+        self.counted(*laid, (BAG, 60000), (PRIME, 20, 0), n4=20000, n5=16000, n13=4000, n14=8000, n17=16000, n20=20,
+                     n21=1)
 
     def test_the_vent_and_a_line_with_air_in_its_trap(self):
         way = ((TEST,), (LAY,), (PRIME, 3, 2))

@@ -75,7 +75,8 @@ TO_THE_NEXT_ONE = (
     ((WAIT, 3600), [0]),
     ((LEAVE,), [0]),
     ((DONE,), [0]),
-    ((TOTALS,), [0, 7500, 17500, 0, 36000, 32000, 7500, 32900, 0, 0, 0, 0, 0, 4000, 8000, 0, 0, 16000, 600, 8000, 73, 2]),
+    ((TOTALS,), [0, 7500, 17500, 0, 36000, 32000, 7500, 32900, 0, 0, 0, 0, 0, 4000, 8000, 0, 0, 16000, 600, 8000, 73,
+                 2]),
     ((TEST,), [-3]),
     ((DISINFECT, 10), [0]),
     ((PATH,), [0] + [1000] * 6 + [200, 0]),
@@ -88,8 +89,8 @@ TO_THE_NEXT_ONE = (
     ((TEST,), [0, 0]),
     ((LAY,), [0]),
     ((GUARD,), [0, 0, 0, 0, 0, 0, 0, 0, 0, 1, 300, 24000, 0]),
-    ((TOTALS,), [0, 7500, 17500, 0, 36000, 48000, 7500, 32900, 0, 0, 0, 0, 0, 4000, 8000, 0, 16000, 16000, 600, 8000, 73,
-                 3]),
+    ((TOTALS,), [0, 7500, 17500, 0, 36000, 48000, 7500, 32900, 0, 0, 0, 0, 0, 4000, 8000, 0, 16000, 16000, 600, 8000,
+                 73, 3]),
 )
 
 
@@ -138,7 +139,8 @@ class WholeWayTest(MachineTest):
             self.assertEqual((len(answer), answer[:3]), (104, [0, 100, 0]))
         # 500 a second is the greatest room of all, and less than this goal asks for
         self.assertEqual(given[len(way) + 288], [0, 1, 0, 14400000, 0])
-        self.assertEqual(given[-1], [0, 1, -1, 3, 1, 1, 1, 100000000, 1, 500, 28800, 0, 28800, 14400000, 28800, 14400000])
+        self.assertEqual(
+            given[-1], [0, 1, -1, 3, 1, 1, 1, 100000000, 1, 500, 28800, 0, 28800, 14400000, 28800, 14400000])
 
 
 def random_plan(source):
@@ -247,6 +249,6 @@ class TruthTest(MachineTest):
             self.assertIn((place, 1), reached)
         for place, refusals in ((BEGIN, (-3, -4, -5, -6)), (REPLAN, (-3, -4, -5)), (JOIN, (-3, -4, -5, -6)),
                                 (RUN, (-3, -4)), (DONE, (-3, -4)), (CLEAR, (-3, -4)), (BACK, (-3,)),
-                                (CENTRE, (-2, -3, -4)), (RESET, (-2, -3, -4)), (PRESS, (-2, 8, 16, 24)), (LEAK, (-2, 4)),
-                                (WAIT, (-2, 128)), (CHECK, (-2, 1, 2))):
+                                (CENTRE, (-2, -3, -4)), (RESET, (-2, -3, -4)), (PRESS, (-2, 8, 16, 24)),
+                                (LEAK, (-2, 4)), (WAIT, (-2, 128)), (CHECK, (-2, 1, 2))):
             self.assertEqual([refusal for refusal in refusals if (place, refusal) not in reached], [], place)
